@@ -1,0 +1,1 @@
+"""Gonetold: what can be known of a row that nobody copies."""
