@@ -1,6 +1,6 @@
 """Checks of values that several modules share."""
 
-from gonetold.errors import NoPlace
+from gonetold.errors import NoPlace, Unfit
 
 
 def is_number(thing):
@@ -32,3 +32,9 @@ def require_letters(word, many):
     for letter in word:
         if not 1 <= letter <= many:
             raise NoPlace(letter)
+
+
+def require_number_shown(shown):
+    """Raise Unfit() unless shown is a number from 0."""
+    if not is_number(shown) or shown < 0:
+        raise Unfit()

@@ -1,7 +1,7 @@
 """Machines: where words lead, what is taken, the least machine and the ways in it."""
 
 from gonetold.checks import is_place, is_set_of_places, require_letters
-from gonetold.errors import CanNot, NoPlace, Unfit
+from gonetold.errors import CanNot, NoPlace, TooMuch, Unfit
 
 
 def is_machine(thing):
@@ -105,11 +105,18 @@ def are_alike(one, other):
 def parting_word(one, other):
     """Return the first word that just one of both machines takes."""
     require_as_many_letters(one, other)
-    ways = first_words((0, 0), lambda pair: list(zip(one[0][pair[0]], other[0][pair[1]])))
-    for pair, word in ways.items():
-        if (pair[0] in one[1]) != (pair[1] in other[1]):
+    word = parting_way(one, other, (0, 0))
+    if word is None:
+        raise CanNot()
+    return word
+
+
+def parting_way(one, other, pair):
+    """Return the first word that leads just one of a pair of states, of one and of other, to an end, or None."""
+    for places, word in pair_ways(one[0], other[0], pair).items():
+        if (places[0] in one[1]) != (places[1] in other[1]):
             return word
-    raise CanNot()
+    return None
 
 
 def way_to(machine, state):
@@ -140,10 +147,15 @@ def ways_from(steps, state):
     return first_words(state, lambda place: steps[place])
 
 
-def first_words(begin, ahead):
+def pair_ways(one, other, pair):
+    """Return the first words, in order, that lead a pair of states, by the steps one and other, to each pair."""
+    return first_words(pair, lambda places: list(zip(one[places[0]], other[places[1]])))
+
+
+def first_words(begin, ahead, most=None):
     """Return a dict with the first word that leads begin to each place, in the order of these words.
 
-    ahead tells of a place to which places the letters 1, 2, .. lead it.
+    ahead tells of a place to which places the letters 1, 2, .. lead it. TooMuch() if they are more than most.
     """
     ways = {begin: ()}
     waiting = [begin]
@@ -155,6 +167,8 @@ def first_words(begin, ahead):
             if target not in ways:
                 ways[target] = ways[place] + (letter,)
                 waiting.append(target)
+        if most is not None and len(ways) > most:
+            raise TooMuch()
     return ways
 
 

@@ -41,6 +41,18 @@ def is_word(thing):
     return isinstance(thing, tuple) and all([is_letter(letter) for letter in thing])
 
 
+def is_row_of_words(thing, many, letters):
+    """Tell whether thing is a tuple of just so many words of so many letters."""
+    if not isinstance(thing, tuple) or len(thing) != many:
+        return False
+    return all([is_word_of(word, letters) for word in thing])
+
+
+def is_word_of(thing, letters):
+    """Tell whether thing is a word of so many letters."""
+    return is_word(thing) and all([letter <= letters for letter in thing])
+
+
 def is_deed(thing):
     """Tell whether thing is a deed."""
     if not isinstance(thing, tuple):

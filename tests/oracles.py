@@ -72,19 +72,117 @@ def all_machines(states, letters):
             yield steps, tuple(state for state in range(states) if kinds[state])
 
 
-def some_machines(states, letters, many):
-    """Machines with so many states and letters, told off by a counter that jumps about."""
-    number = 12345 + 100 * states + letters
-    made = []
+def jumping(seed):
+    """A function that draws a number below another one, the same ones each time for one seed."""
+    number = seed
 
     def drawn(below):
         nonlocal number
         number = (number * 1103515245 + 12345) % 2 ** 31
         return (number >> 8) % below
 
+    return drawn
+
+
+def some_machines(states, letters, many):
+    """Machines with so many states and letters, told off by a counter that jumps about."""
+    drawn, made = jumping(12345 + 100 * states + letters), []
     for _ in range(many):
         steps = tuple(tuple(drawn(states) for _ in range(letters)) for _ in range(states))
         made.append((steps, tuple(state for state in range(states) if drawn(3) == 0)))
+    return made
+
+
+def levelled_machines(letters, many):
+    """Machines whose states stand on steps of a round: of these some are kept with nothing told."""
+    drawn, made = jumping(777 + letters), []
+    for _ in range(many):
+        steps_round = [[0]]
+        states = 1
+        for _ in range(1 + drawn(3)):
+            width = 1 + drawn(3)
+            steps_round.append(list(range(states, states + width)))
+            states += width
+        rows = []
+        for at, floor in enumerate(steps_round):
+            ahead = steps_round[(at + 1) % len(steps_round)]
+            rows.extend(tuple(ahead[drawn(len(ahead))] for _ in range(letters)) for _ in floor)
+        made.append((tuple(rows), tuple(state for state in range(states) if drawn(2))))
+    return made
+
+
+def turning_machines(states, letters, many):
+    """Machines whose letters only exchange states."""
+    drawn, made = jumping(4321 + 10 * states + letters), []
+    for _ in range(many):
+        columns = []
+        for _ in range(letters):
+            left = list(range(states))
+            columns.append([left.pop(drawn(len(left))) for _ in range(states)])
+        made.append((tuple(zip(*columns)), tuple(state for state in range(states) if drawn(2))))
+    return made
+
+
+def doings_plainly(machine):
+    """The first word of each doing, in order, made from all words of 0, 1, .. letters until no length has a new one."""
+    letters = len(machine[0][0])
+    found, fresh, length = {}, True, 0
+    while fresh:
+        fresh = False
+        for word in itertools.product(range(1, letters + 1), repeat=length):
+            doing = tuple(led(machine, state, word) for state in range(len(machine[0])))
+            if doing not in found:
+                found[doing] = word
+                fresh = True
+        length += 1
+    return found
+
+
+def answers_plainly(keeper, history):
+    """What a keeper answers at first and behind each deed: its table is gone through each time."""
+    mode, shown, telling, answers, room, table = keeper
+    rows = standings_plainly(mode, history)
+    told = [answers[room]]
+    for at, deed in enumerate(history):
+        heard = deed
+        if deed == ("out",):
+            heard = ("out", telling[rows[at][0 if mode == "queue" else -1] - 1])
+        row = rows[at + 1]
+        sight = row[:shown] if mode == "queue" else row[len(row) - min(shown, len(row)):]
+        for own, eye, target in table[room]:
+            if own == heard and eye == sight:
+                room = target
+                break
+        told.append(answers[room])
+    return told
+
+
+def wrong_behind(keeper, machine, history):
+    """Whether a keeper answers wrongly behind some beginning of history."""
+    rows = standings_plainly(keeper[0], history)
+    return answers_plainly(keeper, history) != [led(machine, 0, word) in machine[1] for word in rows]
+
+
+def sound_histories(letters, many):
+    """All sound histories of just many deeds."""
+    return [history for history in histories_up_to(letters, many)
+            if len(history) == many and is_sound_plainly(history)]
+
+
+def long_histories(letters, deeds, many):
+    """Sound histories of so many deeds, in some of which the row grows, in others falls, told off by a counter."""
+    drawn, made = jumping(99 + letters), []
+    for at in range(many):
+        history, standing = [], 0
+        for place in range(deeds):
+            down = (at + place // 40) % 3
+            if standing and drawn(5) < 1 + down:
+                history.append(("out",))
+                standing -= 1
+            else:
+                history.append(("in", 1 + drawn(letters)))
+                standing += 1
+        made.append(tuple(history))
     return made
 
 

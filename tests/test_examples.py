@@ -4,7 +4,7 @@ import doctest
 import os
 import unittest
 
-from gonetold import errors, machines, words
+from gonetold import doings, errors, keepers, kept, leastshown, loops, machines, shown, tellings, words
 from tests.examples import run_examples, steps_of
 
 WORDS = '''
@@ -46,29 +46,152 @@ MACHINES = '''
     raises Unfit()
 '''
 
+DOINGS = '''
+    >>> turns = (((1, 1), (2, 0), (0, 2)), (0,))
+    >>> doings(turns), doing_of(turns, (1, 2)), word_for(turns, (2, 1, 0)), one_of(turns)
+    ([(0, 1, 2), (1, 2, 0), (1, 0, 2), (2, 0, 1), (0, 2, 1), (2, 1, 0)], (0, 2, 1), (2, 1), (0, 1, 2))
+    >>> doings(last), idempotents(last), idempotents(turns), images(last), images(turns)
+    ([(0, 1), (1, 1), (0, 0)], [(1, 1), (0, 0)], [(0, 1, 2)], ((0,), (0, 1), (1,)), ((0, 1, 2),))
+    >>> lap_of((1, 2, 0)), lap_of((1, 2, 2)), idempotent_power((1, 2, 2)), image_of((1, 2, 2)), rank_of((1, 2, 2)), is_idempotent((0, 0))
+    ((1, 3), (2, 1), (2, 2, 2), (1, 2), 2, True)
+    >>> then((1, 2, 0), (1, 0, 2)), doing_of((((2, 1), (2, 1), (2, 3), (2, 1)), (2,)), (1,))
+    ((0, 2, 1), (1, 1))
+    >>> word_for(last, (1, 0))
+    raises CanNot()
+    >>> doing_of(last, (3,))
+    raises NoPlace(place=3)
+'''
+
+LOOPS = '''
+    >>> twos = (((1, 2), (0, 0), (0, 0)), (1,))
+    >>> [returns(twos, own) for own in ((), (1,), (2, 1))], returns_machine(twos), keeps_tails(twos), keeps_tails(last), keeps_tails(some)
+    ([True, False, True], (((1, 1), (0, 0)), (0,)), True, False, False)
+    >>> breaker(last), lost_word(some), [is_breaker(last, own) for own in (((1, 1), (2,)), ((2,), (2,)), ((1,), ()), [(1,), (2,)], ((1,), (3,)))]
+    (((1,), (2,)), (1,), [True, False, False, False, False])
+    >>> first_returns(twos, 4), first_returns(odds, 3), first_returns(some, 2)
+    ([(1, 1), (1, 2), (2, 1), (2, 2)], [(2,), (1, 1), (1, 2, 1)], [(2,)])
+    >>> breaker(twos)
+    raises CanNot()
+    >>> lost_word(last)
+    raises CanNot()
+'''
+
+KEPT = '''
+    >>> twos, last = (((1, 2), (0, 0), (0, 0)), (1,)), (((1, 0), (1, 0)), (1,))
+    >>> odds, some = (((1, 0), (0, 1)), (1,)), (((1, 0), (1, 1)), (1,))
+    >>> [is_kept(*own) for own in ((twos, (0, 0)), (last, (0, 1)), (odds, (0, 0)), (odds, (0, 1)), (some, (0, 1)))]
+    [True, False, False, True, False]
+    >>> is_why_not(last, (0, 1), ("tail", (1,), (2,))), is_why_not(last, (0, 1), ("tail", (2,), (2,))), is_why_not(some, (0, 1), ("lost", (1,)))
+    (True, False, True)
+    >>> [is_why_not(odds, own, ("unlike", (), 2, 1, ())) for own in ((0, 0), (0, 1))], is_why_not(odds, (0, 0), why_not(odds, (0, 0)))
+    ([True, False], True)
+    >>> doing_of(twos, (1, 2, 1)), left_state(twos, doing_of(twos, (1, 1)), (1, 0, 0)), left_state(twos, (1, 0, 0), (1, 0, 0))
+    ((1, 0, 0), 1, 0)
+    >>> keeper = made(twos, (0, 0))
+    >>> keeper[:3], [answer_behind(keeper, puts((2, 1, 1)) + outs(own)) for own in (0, 1, 2, 3)]
+    (('queue', 0, (0, 0)), [True, False, True, False])
+    >>> made(last, (0, 0))
+    raises CanNot()
+    >>> why_not(twos, (0, 1))
+    raises CanNot()
+    >>> is_kept(twos, (0, 0, 1))
+    raises Unfit()
+'''
+
+TELLINGS = '''
+    >>> tellings(3), is_telling((0, 2)), is_telling((1, 0)), is_telling((0, 1, 0, 2))
+    ([(0, 0, 0), (0, 0, 1), (0, 1, 0), (0, 1, 1), (0, 1, 2)], False, False, True)
+    >>> told((0, 1, 0), (3, 2, 1)), spread((0, 1, 0), (0, 1)), stand_in((0, 1, 0), (3, 2, 1)), spread((0, 1, 0), ())
+    ((0, 1, 0), [(1, 2), (3, 2)], (1, 2, 1), [()])
+    >>> is_finer((0, 1, 2), (0, 1, 1)), is_finer((0, 0, 1), (0, 1, 1)), joined((0, 0, 1), (0, 1, 1)), met((0, 0, 1), (0, 1, 1)), joined((0, 1, 2, 1), (0, 1, 2, 2))
+    (True, False, (0, 0, 0), (0, 1, 2), (0, 1, 1, 1))
+    >>> turns = (((1, 0, 2), (2, 1, 0), (0, 2, 1)), (0,))
+    >>> coarsest(odds), coarsest(twos), good_tellings(odds), good_tellings(twos), good_tellings(last)
+    ((0, 1), (0, 0), [(0, 1)], [(0, 0), (0, 1)], [])
+    >>> coarsest(turns), coarsest((((1, 0, 1), (0, 1, 0)), (1,)))
+    ((0, 1, 2), (0, 1, 0))
+    >>> coarsest(last)
+    raises CanNot()
+    >>> told((0, 1, 0), (3, 4))
+    raises NoPlace(place=4)
+    >>> joined((0, 0), (0, 0, 1))
+    raises Unfit()
+'''
+
+KEEPERS = '''
+    >>> last, odds = (((1, 0), (1, 0)), (1,)), (((1, 0), (0, 1)), (1,))
+    >>> ones = ("queue", 0, (0, 1), (False, True), 0, (((("in", 1), (), 1), (("out", 0), (), 1)), ((("in", 1), (), 0), (("out", 0), (), 0))))
+    >>> is_keeper(ones), is_keeper(ones[:4] + (2, ones[5])), is_keeper(ones[:5] + (ones[5] + ((),),)), is_keeper(("queue", 0, (0, 0)) + ones[3:])
+    (True, False, False, True)
+    >>> rooms_along(ones, puts((1, 2, 1)) + outs(2)), answers_along(ones, puts((1, 2, 1)) + outs(2)), answer_behind(ones, ())
+    ([0, 1, 1, 0, 1, 1], [False, True, True, False, True, True], False)
+    >>> first_parting(ones, odds, 6), first_parting(ones, last, 6), parts(ones, last, puts((1, 1))), parts(ones, odds, puts((1, 1)))
+    (None, (('in', 1), ('in', 1)), True, False)
+    >>> first_parting(("queue", 0, (0, 0)) + ones[3:], odds, 6)
+    (('in', 2), ('out',))
+    >>> rooms_along(ones, outs(1))
+    raises Unfit()
+    >>> answer_behind(ones, puts((1, 3)))
+    raises NoPlace(place=3)
+'''
+
+SHOWN = '''
+    >>> last, some, odds = (((1, 0), (1, 0)), (1,)), (((1, 0), (1, 1)), (1,)), (((1, 0), (0, 1)), (1,))
+    >>> [[is_kept_shown(own, shown) for shown in (0, 1, 2)] for own in (last, some, odds)]
+    [[False, True, True], [False, False, False], [True, True, True]]
+    >>> [is_bar(last, *own) for own in ((0, ((1,), ())), (0, ((2,), ())), (1, ((1,), (2,))), (0, ((1,), (1,))))], is_bar(some, 2, ((1,), (2, 2)))
+    ([True, False, False, False], True)
+    >>> is_bar(some, 3, bar(some, 3)), is_bar(last, 0, bar(last, 0))
+    (True, True)
+    >>> keeper = made_shown(last, 1)
+    >>> keeper[:3], [answer_behind(keeper, puts((2, 1, 2, 1)) + outs(own)) for own in range(5)], first_parting(keeper, last, 5)
+    (('queue', 1, (0, 0)), [True, True, True, True, False], None)
+    >>> made_shown(odds, 0)[:3], answer_behind(made_shown(odds, 0), puts((1, 2, 1)) + outs(1))
+    (('queue', 0, (0, 1)), True)
+    >>> made_shown(some, 4)
+    raises CanNot()
+    >>> bar(odds, 0)
+    raises CanNot()
+'''
+
+LEAST_SHOWN = '''
+    >>> last, some, odds = (((1, 0), (1, 0)), (1,)), (((1, 0), (1, 1)), (1,)), (((1, 0), (0, 1)), (1,))
+    >>> pair = (((1, 0), (2, 0), (2, 0)), (2,))
+    >>> [least_shown(own) for own in (odds, last, pair, some)]
+    [0, 1, 2, None]
+    >>> barred(last, 0), barred(last, 1), barred(some, 5), barred(pair, 1)
+    (((0, (1,)),), (), ((0, (1,)),), ((1, (2,)),))
+    >>> is_bar(pair, 1, longest_bar(pair)), is_never_paper(some, never_paper(some))
+    (True, True)
+    >>> [is_never_paper(some, own) for own in (((), (1,), (2,)), ((2,), (2, 1), (2, 2)), ((), (1,), ()), ((1,), (1,), (2,)), ((), (2,), (2,)))]
+    [True, True, False, False, False]
+    >>> longest_bar(odds)
+    raises CanNot()
+    >>> never_paper(pair)
+    raises CanNot()
+'''
+
+
+SECTIONS = ((words, WORDS, 8), (machines, MACHINES, 7), (doings, DOINGS, 6), (loops, LOOPS, 5), (kept, KEPT, 8),
+            (tellings, TELLINGS, 8), (keepers, KEEPERS, 6), (shown, SHOWN, 7), (leastshown, LEAST_SHOWN, 6))
+
 
 class ExamplesTest(unittest.TestCase):
 
-    def setUp(self):
-        self.names = {}
-        for module in (errors, words, machines):
-            self.names.update(vars(module))
-
-    def test_words(self):
-        run_examples(self, WORDS, self.names)
-
-    def test_machines(self):
-        run_examples(self, MACHINES, self.names)
+    def test_each_section_with_the_names_of_those_ahead_of_it(self):
+        names = {}
+        for module in (errors,) + tuple(module for module, _, _ in SECTIONS):
+            names.update(vars(module))
+        for module, text, many in SECTIONS:
+            with self.subTest(section=module.__name__):
+                run_examples(self, text, names)
+                self.assertEqual(len([1 for _, expected in steps_of(text) if expected is not None]), many)
 
     def test_readme(self):
         readme = os.path.join(os.path.dirname(os.path.dirname(os.path.abspath(__file__))), "README.md")
         failed, tried = doctest.testfile(readme, module_relative=False)
         self.assertEqual(failed, 0)
         self.assertGreater(tried, 0)
-
-    def test_no_example_is_lost(self):
-        for text, many in ((WORDS, 8), (MACHINES, 7)):
-            self.assertEqual(len([1 for _, expected in steps_of(text) if expected is not None]), many)
 
 
 if __name__ == "__main__":

@@ -3,7 +3,10 @@
 import ast
 import builtins
 import os
+import re
 import unittest
+
+from tests.interface import INTERFACE
 
 PACKAGE = os.path.join(os.path.dirname(os.path.dirname(os.path.abspath(__file__))), "gonetold")
 LIBRARY = ("heapq", "math", "itertools", "collections")
@@ -77,6 +80,30 @@ class LanguageTest(unittest.TestCase):
                     self.assertIsNone(own.asname)
                     self.assertIn(own.name, [top.name for top in defined if hasattr(top, "name")], name)
 
+    def test_no_two_files_import_from_each_other(self):
+        ahead = {name: set() for name in self.trees}
+        for name, node in self.nodes(ast.ImportFrom):
+            if node.module not in LIBRARY:
+                ahead[name].add(node.module.split(".")[1] + ".py")
+        while ahead:
+            free = [name for name in ahead if not ahead[name] & set(ahead)]
+            self.assertNotEqual(free, [], sorted(ahead))
+            for name in free:
+                del ahead[name]
+
+    def test_imported_names_are_used_and_mean_nothing_else(self):
+        for name, tree in self.trees.items():
+            imported = [own.name for node in tree.body if isinstance(node, ast.ImportFrom) for own in node.names]
+            used = {node.id for node in ast.walk(tree) if isinstance(node, ast.Name)}
+            self.assertEqual([own for own in imported if own not in used], [], name)
+            self.assertEqual([own for own in imported if own in own_names([tree])], [], name)
+
+    def test_functions_are_used_or_listed(self):
+        listed = {name for text in INTERFACE.values() for name, _ in re.findall(r"(\w+)\(([^)]*)\)", text)}
+        used = {node.id for _, node in self.nodes(ast.Name)} | {node.attr for _, node in self.nodes(ast.Attribute)}
+        for name, node in self.nodes(ast.FunctionDef):
+            self.assertIn(node.name, listed | used | {"__init__"}, name)
+
     def test_module_level(self):
         for name, tree in self.trees.items():
             for node in tree.body:
@@ -95,9 +122,10 @@ class LanguageTest(unittest.TestCase):
 
     def test_names(self):
         defined = own_names(self.trees.values())
+        imported = {own.name for _, line in self.nodes(ast.ImportFrom) for own in line.names}
+        known = defined | BUILTINS | imported
         for name, node in self.nodes(ast.Name):
-            self.assertIn(node.id, defined | BUILTINS | {own.name for _, line in self.nodes(ast.ImportFrom)
-                                                         for own in line.names}, (name, node.lineno))
+            self.assertIn(node.id, known, (name, node.lineno))
         for own in defined:
             self.assertFalse(own.startswith("__") and own != "__init__", own)
             # What begins with "_" is no builtin, though Python's doctest puts "_" there.

@@ -5,24 +5,24 @@ import inspect
 import re
 import unittest
 
-from gonetold import errors, machines, words
-from gonetold.errors import CanNot, NoPlace, Unfit
+from gonetold import doings, errors, keepers, kept, leastshown, loops, machines, shown, tellings, words
+from gonetold.errors import CanNot, NoPlace, TooMuch, Unfit
+from tests.interface import INTERFACE
 from tests.oracles import lists_all_through
-
-INTERFACE = {
-    words: """is_word(thing), is_deed(thing), is_history(thing), is_mode(thing), is_sound(history), puts(word),
-        outs(many), stands(mode, history), standings(mode, history), letters_out(mode, history),
-        seen(mode, word, shown), heard_along(mode, shown, telling, history), histories_of(letters, many)""",
-    machines: """is_machine(thing), letters_in(machine), leads(machine, state, word), state_behind(machine, word),
-        takes(machine, word), least(machine), are_alike(one, other), parting_word(one, other),
-        way_to(machine, state), way_back(machine, state), leads_back(machine)""",
-}
 
 SIGNATURE = r"(\w+)\(([^)]*)\)"
 
 MIXED = (("in", 1), ("in", 2), ("out",), ("in", 2), ("in", 3), ("out",))
 LAST, ODDS, SOME = (((1, 0), (1, 0)), (1,)), (((1, 0), (0, 1)), (1,)), (((1, 0), (1, 1)), (1,))
 WIDE = (((2, 1), (2, 1), (2, 3), (2, 1)), (2,))
+TWOS, PAIR = (((1, 2), (0, 0), (0, 0)), (1,)), (((1, 0), (2, 0), (2, 0)), (2,))
+ONES = ("queue", 0, (0, 1), (False, True), 0, (((("in", 1), (), 1), (("out", 0), (), 1)),
+                                              ((("in", 1), (), 0), (("out", 0), (), 0))))
+BLIND = ("queue", 0, (0, 0)) + ONES[3:]
+SEEING = ("pile", 2, (0, 0), (True, False), 1, (((("in", 2), (1, 2), 1), (("out", 0), (), 1)),
+                                               ((("in", 1), (1,), 0), (("in", 1), (1, 1), 1))))
+# Rings of so many states, of one letter: they have as many doings.
+RING_30, RING_31, RING_501 = [(tuple(((state + 1) % many,) for state in range(many)), (0,)) for many in (30, 31, 501)]
 
 CALLS = (
     (words.is_sound, {"history": MIXED}), (words.is_sound, {"history": MIXED[2:]}),
@@ -42,6 +42,42 @@ CALLS = (
     (machines.are_alike, {"one": WIDE, "other": LAST}), (machines.are_alike, {"one": ODDS, "other": LAST}),
     (machines.parting_word, {"one": LAST, "other": ODDS}), (machines.way_to, {"machine": LAST, "state": 1}),
     (machines.way_back, {"machine": LAST, "state": 1}), (machines.leads_back, {"machine": SOME}),
+    (doings.doing_of, {"machine": WIDE, "word": (2, 1)}), (doings.one_of, {"machine": WIDE}),
+    (doings.then, {"one": (1, 2, 0), "other": (1, 0, 2)}), (doings.doings, {"machine": LAST}),
+    (doings.word_for, {"machine": LAST, "doing": (1, 1)}), (doings.idempotents, {"machine": WIDE}),
+    (doings.image_of, {"doing": (2, 0, 2)}), (doings.rank_of, {"doing": (2, 0, 2)}),
+    (doings.is_idempotent, {"doing": (0, 0)}), (doings.is_idempotent, {"doing": (1, 0)}),
+    (doings.images, {"machine": LAST}), (doings.lap_of, {"doing": (1, 2, 2)}),
+    (doings.idempotent_power, {"doing": (1, 2, 2)}), (doings.idempotent_power, {"doing": (0, 1)}),
+    (loops.returns, {"machine": TWOS, "word": (2, 1)}), (loops.returns_machine, {"machine": TWOS}),
+    (loops.lost_word, {"machine": SOME}), (loops.breaker, {"machine": WIDE}), (loops.keeps_tails, {"machine": TWOS}),
+    (loops.is_breaker, {"machine": LAST, "thing": ((1,), (2,))}), (loops.first_returns, {"machine": ODDS, "longest": 3}),
+    (kept.is_kept, {"machine": ODDS, "telling": (0, 1)}), (kept.is_kept, {"machine": ODDS, "telling": (0, 0)}),
+    (kept.why_not, {"machine": ODDS, "telling": (0, 0)}), (kept.why_not, {"machine": SOME, "telling": (0, 1)}),
+    (kept.why_not, {"machine": WIDE, "telling": (0, 1)}), (kept.made, {"machine": ODDS, "telling": (0, 1)}),
+    (kept.is_why_not, {"machine": ODDS, "telling": (0, 0), "thing": ("unlike", (), 2, 1, ())}),
+    (kept.is_why_not, {"machine": WIDE, "telling": (0, 0), "thing": ("tail", (1,), (2,))}),
+    (kept.is_why_not, {"machine": SOME, "telling": (0, 0), "thing": ("lost", (1,))}),
+    (kept.left_state, {"machine": TWOS, "gone": (0, 1, 1), "came": (1, 0, 0)}),
+    (tellings.tellings, {"many": 4}), (tellings.told, {"telling": (0, 1, 0), "word": (3, 2, 1)}),
+    (tellings.spread, {"telling": (0, 1, 0), "tokens": (0, 1, 0)}),
+    (tellings.stand_in, {"telling": (0, 1, 0), "word": (3, 2, 1)}),
+    (tellings.is_finer, {"one": (0, 1, 2), "other": (0, 1, 1)}), (tellings.joined, {"one": (0, 0, 1), "other": (0, 1, 1)}),
+    (tellings.met, {"one": (0, 0, 1), "other": (0, 1, 1)}), (tellings.good_tellings, {"machine": TWOS}),
+    (tellings.coarsest, {"machine": TWOS}),
+    (keepers.rooms_along, {"keeper": SEEING, "history": MIXED[:4]}),
+    (keepers.answers_along, {"keeper": ONES, "history": MIXED[:4]}),
+    (keepers.answer_behind, {"keeper": ONES, "history": ()}),
+    (keepers.parts, {"keeper": ONES, "machine": LAST, "history": MIXED[:3]}),
+    (keepers.parts, {"keeper": SEEING, "machine": LAST, "history": MIXED[:2]}),
+    (keepers.first_parting, {"keeper": BLIND, "machine": ODDS, "many": 6}),
+    (keepers.first_parting, {"keeper": ONES, "machine": ODDS, "many": 3}),
+    (shown.is_kept_shown, {"machine": WIDE, "shown": 1}), (shown.bar, {"machine": SOME, "shown": 2}),
+    (shown.is_bar, {"machine": WIDE, "shown": 0, "thing": ((1,), ())}), (shown.made_shown, {"machine": LAST, "shown": 1}),
+    (shown.made_shown, {"machine": ODDS, "shown": 0}), (leastshown.barred, {"machine": PAIR, "shown": 1}),
+    (leastshown.least_shown, {"machine": PAIR}), (leastshown.longest_bar, {"machine": PAIR}),
+    (leastshown.never_paper, {"machine": SOME}),
+    (leastshown.is_never_paper, {"machine": SOME, "thing": ((), (1,), (2,))}),
 )
 
 REFUSED = (
@@ -59,13 +95,64 @@ REFUSED = (
     (machines.way_to, {"machine": WIDE, "state": 2}, NoPlace(2)),
     (machines.way_back, {"machine": SOME, "state": -1}, NoPlace(-1)),
     (machines.way_back, {"machine": SOME, "state": 1}, CanNot()),
+    (doings.doing_of, {"machine": WIDE, "word": (2, 4, 3)}, NoPlace(4)),
+    (doings.doings, {"machine": RING_501}, TooMuch()), (doings.idempotents, {"machine": RING_501}, TooMuch()),
+    (doings.word_for, {"machine": RING_501, "doing": (0,) * 501}, TooMuch()),
+    (doings.word_for, {"machine": LAST, "doing": (1, 0)}, CanNot()),
+    (loops.returns, {"machine": LAST, "word": (1, 3, 4)}, NoPlace(3)), (loops.lost_word, {"machine": LAST}, CanNot()),
+    (loops.breaker, {"machine": TWOS}, CanNot()), (loops.first_returns, {"machine": ODDS, "longest": 1002}, TooMuch()),
+    (kept.is_kept, {"machine": TWOS, "telling": (0, 0, 1)}, Unfit()),
+    (kept.is_kept, {"machine": TWOS, "telling": (0, 2)}, Unfit()),
+    (kept.why_not, {"machine": TWOS, "telling": (0,)}, Unfit()),
+    (kept.why_not, {"machine": TWOS, "telling": (0, 1)}, CanNot()),
+    (kept.is_why_not, {"machine": SOME, "telling": (0, 0, 0), "thing": ("lost", (1,))}, Unfit()),
+    (kept.left_state, {"machine": LAST, "gone": (1, 1), "came": (1, 1)}, CanNot()),
+    (kept.made, {"machine": LAST, "telling": (0, 0, 1)}, Unfit()),
+    (kept.made, {"machine": LAST, "telling": (0, 0)}, CanNot()),
+    (kept.made, {"machine": RING_31, "telling": (0,)}, TooMuch()),
+    (kept.made, {"machine": RING_31, "telling": (0, 1)}, Unfit()),
+    (tellings.told, {"telling": (0, 1, 0), "word": (3, 4, 5)}, NoPlace(4)),
+    (tellings.stand_in, {"telling": (0, 1, 0), "word": (3, 4, 5)}, NoPlace(4)),
+    (tellings.spread, {"telling": (0, 1, 0), "tokens": (1, 3, 2)}, NoPlace(3)),
+    (tellings.is_finer, {"one": (0, 1, 0), "other": (0, 1)}, Unfit()),
+    (tellings.joined, {"one": (0,), "other": (0, 1)}, Unfit()),
+    (tellings.met, {"one": (0, 0), "other": (0, 1, 0)}, Unfit()), (tellings.coarsest, {"machine": LAST}, CanNot()),
+    (keepers.rooms_along, {"keeper": ONES, "history": (("out",), ("in", 3))}, Unfit()),
+    (keepers.answers_along, {"keeper": ONES, "history": (("in", 1), ("in", 4), ("in", 3))}, NoPlace(4)),
+    (keepers.answer_behind, {"keeper": ONES, "history": (("in", 3), ("out",), ("out",))}, Unfit()),
+    (keepers.parts, {"keeper": ONES, "machine": RING_30, "history": (("in", 3),)}, Unfit()),
+    (keepers.parts, {"keeper": ONES, "machine": LAST, "history": (("in", 3), ("out",), ("out",))}, Unfit()),
+    (keepers.parts, {"keeper": ONES, "machine": LAST, "history": (("in", 3),)}, NoPlace(3)),
+    (keepers.first_parting, {"keeper": ONES, "machine": RING_30, "many": 3}, Unfit()),
+    (keepers.first_parting, {"keeper": ONES, "machine": ODDS, "many": 20}, TooMuch()),
+    (shown.is_kept_shown, {"machine": LAST, "shown": -1}, Unfit()),
+    (shown.bar, {"machine": SOME, "shown": None}, Unfit()), (shown.bar, {"machine": ODDS, "shown": 0}, CanNot()),
+    (shown.is_bar, {"machine": LAST, "shown": True, "thing": ((1,), (2,))}, Unfit()),
+    (shown.made_shown, {"machine": SOME, "shown": -1}, Unfit()), (shown.made_shown, {"machine": SOME, "shown": 4}, CanNot()),
+    (shown.made_shown, {"machine": RING_30, "shown": 4}, TooMuch()),
+    (leastshown.barred, {"machine": LAST, "shown": -1}, Unfit()), (leastshown.longest_bar, {"machine": ODDS}, CanNot()),
+    (leastshown.longest_bar, {"machine": SOME}, CanNot()), (leastshown.never_paper, {"machine": PAIR}, CanNot()),
 )
 
 
 def mixed_kinds(arguments):
-    """The arguments as they are, with lists for all tuples, and with lists for the outermost tuples alone."""
-    outer = {name: list(value) if isinstance(value, tuple) else value for name, value in arguments.items()}
-    return arguments, {name: lists_all_through(value) for name, value in arguments.items()}, outer
+    """The arguments as they are, with lists for all tuples, and with lists for the outermost tuples alone.
+
+    A thing stays as it is: a list in it is no tuple.
+    """
+    def with_lists(made):
+        return {name: made(value) if name != "thing" and isinstance(value, tuple) else value
+                for name, value in arguments.items()}
+
+    return arguments, with_lists(lists_all_through), with_lists(list)
+
+
+def listed_functions():
+    """The triples of the module, the name and the arguments of each function that the document lists."""
+    modules = {own.__name__.split(".")[1]: own
+               for own in (words, machines, doings, loops, kept, tellings, keepers, shown, leastshown)}
+    return [(modules[file], name, arguments) for file, listed in INTERFACE.items()
+            for name, arguments in re.findall(SIGNATURE, listed)]
 
 
 def parts_of(value):
@@ -131,24 +218,24 @@ class CallsTest(unittest.TestCase):
 
     def test_truth_is_told_by_true_and_false(self):
         for own, arguments in CALLS:
-            if own.__name__ in ("is_sound", "takes", "are_alike", "leads_back"):
+            if own.__name__ in ("takes", "are_alike", "leads_back", "returns", "keeps_tails", "answer_behind", "parts"):
                 self.assertIsInstance(own(**arguments), bool)
+            self.assertEqual(isinstance(own(**arguments), bool) or own.__name__[:3] != "is_", True, own.__name__)
 
 
 class InterfaceTest(unittest.TestCase):
 
     def test_names_and_arguments(self):
-        for module, listed in INTERFACE.items():
-            for name, arguments in re.findall(SIGNATURE, listed):
+        for module, name, arguments in listed_functions():
+            with self.subTest(name=name):
                 own = getattr(module, name)
                 self.assertEqual(list(inspect.signature(own).parameters), arguments.split(", "), name)
                 self.assertEqual(own.__module__, module.__name__)
 
     def test_the_calls_reach_each_function(self):
         reached = {own for own, _ in CALLS}
-        for module, listed in INTERFACE.items():
-            for name, arguments in re.findall(SIGNATURE, listed):
-                self.assertEqual(getattr(module, name) in reached, arguments != "thing", name)
+        for module, name, arguments in listed_functions():
+            self.assertEqual(getattr(module, name) in reached, arguments != "thing", name)
 
     def test_errors(self):
         for name in ("NoPlace", "BadText", "CanNot", "TooMuch", "Unfit"):

@@ -1,0 +1,26 @@
+"""The names and arguments that the document lists, file by file."""
+
+INTERFACE = {
+    "words": """is_word(thing), is_deed(thing), is_history(thing), is_mode(thing), is_sound(history), puts(word),
+        outs(many), stands(mode, history), standings(mode, history), letters_out(mode, history),
+        seen(mode, word, shown), heard_along(mode, shown, telling, history), histories_of(letters, many)""",
+    "machines": """is_machine(thing), letters_in(machine), leads(machine, state, word), state_behind(machine, word),
+        takes(machine, word), least(machine), are_alike(one, other), parting_word(one, other),
+        way_to(machine, state), way_back(machine, state), leads_back(machine)""",
+    "doings": """doing_of(machine, word), one_of(machine), then(one, other), doings(machine), word_for(machine, doing),
+        idempotents(machine), image_of(doing), rank_of(doing), is_idempotent(doing), images(machine), lap_of(doing),
+        idempotent_power(doing)""",
+    "loops": """returns(machine, word), returns_machine(machine), lost_word(machine), breaker(machine),
+        is_breaker(machine, thing), keeps_tails(machine), first_returns(machine, longest)""",
+    "kept": """is_kept(machine, telling), why_not(machine, telling), is_why_not(machine, telling, thing),
+        left_state(machine, gone, came), made(machine, telling)""",
+    "tellings": """is_telling(thing), tellings(many), told(telling, word), spread(telling, tokens),
+        stand_in(telling, word), is_finer(one, other), joined(one, other), met(one, other), good_tellings(machine),
+        coarsest(machine)""",
+    "keepers": """is_keeper(thing), rooms_along(keeper, history), answers_along(keeper, history),
+        answer_behind(keeper, history), parts(keeper, machine, history), first_parting(keeper, machine, many)""",
+    "shown": """is_kept_shown(machine, shown), bar(machine, shown), is_bar(machine, shown, thing),
+        made_shown(machine, shown)""",
+    "leastshown": """barred(machine, shown), least_shown(machine), longest_bar(machine), never_paper(machine),
+        is_never_paper(machine, thing)""",
+}
