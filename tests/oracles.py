@@ -123,6 +123,11 @@ def turning_machines(states, letters, many):
     return made
 
 
+def ring(states, ends=(0,)):
+    """The machine of one letter that leads round so many states."""
+    return tuple(((state + 1) % states,) for state in range(states)), ends
+
+
 def doings_plainly(machine):
     """The first word of each doing, in order, made from all words of 0, 1, .. letters until no length has a new one."""
     letters = len(machine[0][0])
