@@ -111,8 +111,6 @@ def first_parting(keeper, machine, many):
                 return history
         if longest < many:
             level = next_level(mover, met, level)
-        if not level:
-            break
     return None
 
 

@@ -65,7 +65,6 @@ def tokens_in(telling):
 
 def is_finer(one, other):
     """Tell whether letters of one token in one have one token in other, too."""
-    require_tellings(one, other)
     return met(one, other) == tuple(one)
 
 

@@ -239,6 +239,28 @@ class FirstPartingTest(unittest.TestCase):
                 self.assertEqual(first_parting(wrong, machine, 5), self.plainly(wrong, machine, 5))
             self.assertIsNone(first_parting(keeper, machine, 5))
 
+    def test_piles(self):
+        # The first one counts letters 1 by two, the second one sees the last letter: each is right.
+        counting = ("pile",) + ONES[1:]
+        seeing = ("pile", 1, (0, 0), (False, True), 0, (((("in", 1), (1,), 1), (("out", 0), (1,), 1)),
+                                                       ((("in", 2), (2,), 0), (("out", 0), (), 0), (("out", 0), (2,), 0))))
+        self.assertIsNone(first_parting(counting, ODDS, 6))
+        self.assertIsNone(first_parting(seeing, LAST, 6))
+        self.assertEqual(first_parting(("pile",) + BLIND[1:], ODDS, 6), puts((2,)) + outs(1))
+        # Only what goes out of a pile tells these from the right ones.
+        for keeper, machine in ((counting, ODDS), (seeing, LAST)):
+            for room, row in enumerate(keeper[5]):
+                for at in range(len(row)):
+                    table = keeper[5][:room] + (row[:at] + row[at + 1:],) + keeper[5][room + 1:]
+                    wrong = keeper[:5] + (table,)
+                    self.assertIsNotNone(self.plainly(wrong, machine, 5))
+                    self.assertEqual(first_parting(wrong, machine, 5), self.plainly(wrong, machine, 5))
+        for keeper in (("queue",) + seeing[1:], ("pile", 0) + seeing[2:]):
+            self.assertEqual(first_parting(keeper, LAST, 5), self.plainly(keeper, LAST, 5))
+        stack = ("pile", 0, (0, 1, 2), (False, True), 0, (((("in", 3), (), 1), (("out", 2), (), 1)),
+                                                         ((("in", 3), (), 0), (("out", 2), (), 0))))
+        self.assertIsNone(first_parting(stack, (((0, 0, 1), (1, 1, 0)), (1,)), 5))
+
     def test_soundness_and_parting(self):
         for keeper in KEEPERS:
             for machine in some_machines(4, len(keeper[2]), 2):

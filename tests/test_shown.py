@@ -225,6 +225,13 @@ class MadeShownTest(unittest.TestCase):
         with self.assertRaises(TooMuch):
             made_shown(ring(7), 81)
 
+    def test_too_much_with_one_doing(self):
+        # One word above the bound: of 0 to 4,000 letters there are 4,001.
+        with self.assertRaises(TooMuch):
+            made_shown((((0,),), ()), 4000)
+        keeper = made_shown((((0,),), (0,)), 60)
+        self.assertEqual((keeper[:3], set(keeper[3])), (("queue", 60, (0,)), {True}))
+
     def test_too_much_with_more_letters(self):
         # Of two letters there are 2,047 words of 0 to 10 letters, and 4,095 of 0 to 11.
         for shown, fits in ((9, True), (10, True), (11, False), (10 ** 30, False)):
