@@ -29,12 +29,12 @@ def then(one, other):
 
 def doings(machine):
     """Return all doings, in the order of the first words that have them."""
-    return list(doing_ways(machine, MOST_DOINGS))
+    return list(doing_ways(machine))
 
 
 def word_for(machine, doing):
     """Return the first word that has doing."""
-    ways = doing_ways(machine, MOST_DOINGS)
+    ways = doing_ways(machine)
     own = tuple(doing)
     if own not in ways:
         raise CanNot()
@@ -50,7 +50,7 @@ def idempotents(machine):
     return [doing for doing in found if is_idempotent(doing) and (doing != found[0] or one_again)]
 
 
-def doing_ways(machine, most):
+def doing_ways(machine, most=MOST_DOINGS):
     """Return a dict with the first word of each doing, in order; TooMuch() if there are more than most."""
     letters = letter_doings(machine)
     return first_words(one_of(machine), lambda doing: [then(doing, letter) for letter in letters], most)

@@ -137,10 +137,11 @@ def deeds_behind(word, letters):
     return ins + [("out",)] if word else ins
 
 
-def keeper_of(mode, shown, telling, begin, ahead, answer):
+def keeper_of(mode, shown, telling, begin, ahead, answer, most=None):
     """Return the keeper whose rooms are places, begin the first one, numbered as they are first come to.
 
     ahead tells of a place its triples (heard, seen, place), ascending but for the place; answer what is answered there.
+    TooMuch() if there are more rooms than most.
     """
     rooms = {begin: 0}
     waiting = [begin]
@@ -154,6 +155,8 @@ def keeper_of(mode, shown, telling, begin, ahead, answer):
                 waiting.append(place)
             row.append((heard, sight, rooms[place]))
         table.append(tuple(row))
+        if most is not None and len(rooms) > most:
+            raise TooMuch()
     return mode, shown, telling, tuple([answer(place) for place in waiting]), 0, tuple(table)
 
 

@@ -5,6 +5,7 @@ from gonetold.doings import doing_ways, image_of, image_ways, letter_doings, one
 from gonetold.errors import CanNot, TooMuch
 from gonetold.keepers import keeper_of
 from gonetold.machines import least, letters_in
+from gonetold.ways import Ways
 from gonetold.words import is_row_of_words
 
 MOST_MADE_ROOMS = 4000
@@ -12,31 +13,16 @@ MOST_MADE_ROOMS = 4000
 MOST_MADE_DOINGS = 63
 
 
-class Bars:
+class Bars(Ways):
     """The pairs (0 . v, Q . x v) of a machine of which the first is not in the second.
 
-    firsts has for each Q . x the first word x; begins the pairs with v (); ahead for each pair a dict of the pairs to
-    which letters lead it; height for each pair from which no way goes on for ever the letters of the longest one.
+    firsts has for each Q . x the first word x; begins the pairs with v ().
     """
 
     def __init__(self, machine):
         self.firsts = image_ways(machine)
         self.begins = [(0, image) for image in self.firsts if 0 not in image]
-        self.ahead = pairs_ahead(letter_doings(machine), list(self.firsts), self.begins)
-        self.height = heights(self.ahead)
-
-    def has_way(self, pair, many):
-        """Tell whether a way of so many letters goes on from pair."""
-        return pair not in self.height or self.height[pair] >= many
-
-    def way_of(self, pair, many):
-        """Return the word of a way of so many letters that goes on from pair."""
-        word = []
-        for left in reversed(range(many)):
-            letter = min([own for own, target in self.ahead[pair].items() if self.has_way(target, left)])
-            word.append(letter)
-            pair = self.ahead[pair][letter]
-        return tuple(word)
+        Ways.__init__(self, pairs_ahead(letter_doings(machine), list(self.firsts), self.begins))
 
 
 def pairs_ahead(letters, images, begins):
@@ -52,25 +38,6 @@ def pairs_ahead(letters, images, begins):
             ahead[(state, image)] = barred_ones
             waiting.extend(list(barred_ones.values()))
     return ahead
-
-
-def heights(ahead):
-    """Return for each pair from which no way goes on for ever how many letters the longest way from it has."""
-    behind = {pair: [] for pair in ahead}
-    for pair in ahead:
-        for target in ahead[pair].values():
-            behind[target].append(pair)
-    left = {pair: len(ahead[pair]) for pair in ahead}
-    ready = [pair for pair in ahead if left[pair] == 0]
-    height = {}
-    while ready:
-        pair = ready.pop()
-        height[pair] = max([height[target] + 1 for target in ahead[pair].values()], default=0)
-        for own in behind[pair]:
-            left[own] -= 1
-            if left[own] == 0:
-                ready.append(own)
-    return height
 
 
 def is_kept_shown(machine, shown):

@@ -67,6 +67,11 @@ def is_history(thing):
     return isinstance(thing, tuple) and all([is_deed(deed) for deed in thing])
 
 
+def is_history_of(thing, letters):
+    """Tell whether thing is a history, sound or not, of so many letters."""
+    return is_history(thing) and all([not comes_in(deed) or deed[1] <= letters for deed in thing])
+
+
 def is_mode(thing):
     """Tell whether thing is a mode."""
     return thing in ("queue", "pile")
