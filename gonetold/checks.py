@@ -38,3 +38,10 @@ def require_number_shown(shown):
     """Raise Unfit() unless shown is a number from 0."""
     if not is_number(shown) or shown < 0:
         raise Unfit()
+
+
+def tuples_throughout(thing):
+    """Return thing with a tuple for each list, at any depth."""
+    if isinstance(thing, (list, tuple)):
+        return tuple([tuples_throughout(own) for own in thing])
+    return thing
