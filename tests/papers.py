@@ -109,3 +109,20 @@ def is_triple_plainly(thing, shown, telling, rooms):
     if heard not in [("in", at + 1) for at in range(len(telling))] + [("out", token) for token in telling]:
         return False
     return is_word_plainly(sight, len(telling)) and len(sight) <= shown and type(room) is int and room in rooms
+
+
+def is_pile_bar_plainly(small, shown, telling, thing):
+    """Whether thing is a bar against a least machine in a pile with so many letters shown and a telling."""
+    letters, states = len(telling), range(len(small[0]))
+    if type(thing) is not tuple or len(thing) != 3 or type(thing[0]) is not str:
+        return False
+    if thing[0] == "sink":
+        if not are_words_plainly(thing[1:], 2, letters) or len(thing[1]) != shown:
+            return False
+        return len(states_behind(small, thing[1] + thing[2] + thing[1])) < len(states_behind(small, thing[1]))
+    _, one, other = thing
+    if thing[0] != "unlike" or shown != 0 or type(one) is not int or type(other) is not int:
+        return False
+    if not 0 < one < other <= letters or telling[one - 1] != telling[other - 1]:
+        return False
+    return any(small[0][state][one - 1] != small[0][state][other - 1] for state in states)

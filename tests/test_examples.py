@@ -4,7 +4,8 @@ import doctest
 import os
 import unittest
 
-from gonetold import doings, errors, keepers, kept, leastshown, loops, machines, shown, tellings, words
+from gonetold import (desk, doings, errors, joins, judge, keepers, kept, leastshown, levels, loops, machines, pilejudge, piles,
+                      refuted, shown, tellings, texts, words)
 from tests.examples import run_examples, steps_of
 
 WORDS = '''
@@ -171,9 +172,145 @@ LEAST_SHOWN = '''
     raises CanNot()
 '''
 
+PILES = r'''
+    >>> odd, last, any_one = (((1,), (0,)), (1,)), (((1, 0), (1, 0)), (1,)), (((1, 0), (1, 1)), (1,))
+    >>> turns = (((1, 1), (0, 2), (2, 0)), (0,))
+    >>> [least_pile(own) for own in (odd, last, any_one, turns)], [least_rank(own) for own in (odd, last, any_one, turns)]
+    ([0, 1, None, 0], [2, 1, 1, 3])
+    >>> made_pile(odd, 0, (0,))
+    ('pile', 0, (0,), (False, True), 0, (((('in', 1), (), 1), (('out', 0), (), 1)), ((('in', 1), (), 0), (('out', 0), (), 0))))
+    >>> is_kept_pile(last, 0, (0, 1)), is_kept_pile(last, 1, (0, 0)), is_kept_pile(turns, 0, (0, 0)), is_kept_pile(turns, 0, (0, 1))
+    (False, True, False, True)
+    >>> len(made_pile(last, 1, (0, 0))[3]), made_pile(last, 1, (0, 0))[5][1]
+    (3, ((('in', 1), (1,), 1), (('in', 2), (2,), 2), (('out', 0), (), 0), (('out', 0), (1,), 1), (('out', 0), (2,), 2)))
+    >>> is_bar_pile(last, 0, (0, 1), ("sink", (), (1,))), is_bar_pile(any_one, 2, (0, 1), ("sink", (2, 2), (1,))), is_bar_pile(turns, 0, (0, 0), ("unlike", 1, 2)), is_bar_pile(last, 1, (0, 0), ("sink", (1,), (2,)))
+    (True, True, True, False)
+    >>> made_pile(any_one, 3, (0, 1))
+    raises CanNot()
+'''
+
+REFUTED = r'''
+    >>> last, some, odds = (((1, 0), (1, 0)), (1,)), (((1, 0), (1, 1)), (1,)), (((1, 0), (0, 1)), (1,))
+    >>> ones = ("queue", 0, (0, 1), (False, True), 0, (((("in", 1), (), 1), (("out", 0), (), 1)), ((("in", 1), (), 0), (("out", 0), (), 0))))
+    >>> blind = ("queue", 0, (0, 0)) + ones[3:]
+    >>> [parts(own, far, refuted(own, far)) for own, far in ((ones, last), (ones, some), (blind, odds))]
+    [True, True, True]
+    >>> [is_two_rows(own, far, two_rows(own, far)) for own, far in ((ones, last), (blind, odds))]
+    [True, True]
+    >>> is_two_rows(ones, last, (puts((1, 1)), ())), is_two_rows(ones, last, (puts((1,)), ())), is_two_rows(blind, odds, (puts((2,)) + outs(1), puts((1,))))
+    (True, False, True)
+    >>> seeing = ("queue", 2, (0, 0), (False,), 0, ((),))
+    >>> parts(seeing, some, refuted(seeing, some)), parts(("pile",) + ones[1:], last, refuted(("pile",) + ones[1:], last))
+    (True, True)
+    >>> two_rows(ones, odds)
+    raises Unfit()
+    >>> refuted(ones, (((0,),), ()))
+    raises Unfit()
+'''
+
+LEVELS = r'''
+    >>> odd, last, by_two = (((1,), (0,)), (1,)), (((1, 0), (1, 0)), (1,)), (((1, 2), (0, 0), (0, 0)), (1,))
+    >>> [is_levelled(own) for own in (odd, last, by_two)], level_of(odd), level_of(by_two), levels(by_two), unlevelled(last)
+    ([True, False, True], 2, 2, ((0,), (1, 2)), ((1,), (1, 1)))
+    >>> level_rows(odd), fewest_rooms(by_two), row_of(by_two, (1, 2, 1)), row_of(by_two, (2, 1))
+    (((0, 1), (1, 0)), 4, (1, 0), (0, 1))
+    >>> made_level(odd)
+    ('queue', 0, (0,), (False, True), 0, (((('in', 1), (), 1), (('out', 0), (), 1)), ((('in', 1), (), 0), (('out', 0), (), 0))))
+    >>> len(made_level(by_two)[3]), made_level(by_two)[5][0]
+    (4, ((('in', 1), (), 1), (('in', 2), (), 2), (('out', 0), (), 1)))
+    >>> level_of(last)
+    raises CanNot()
+    >>> row_of(by_two, (1,))
+    raises Unfit()
+'''
+
+PILE_JUDGE = r'''
+    >>> odd, last = (((1,), (0,)), (1,)), (((1, 0), (1, 0)), (1,))
+    >>> by_turns = ("pile", 0, (0,), (False, True), 0, (((("in", 1), (), 1), (("out", 0), (), 1)), ((("in", 1), (), 0), (("out", 0), (), 0))))
+    >>> judged(by_turns, odd)
+    ('right', (((0, (), 0), (1, (), 1)), (((), 0, 0), ((), 1, 1))))
+    >>> newest = ("pile", 0, (0, 1), (False, True), 0, ((((("in", 1), (), 1)),), ((("in", 2), (), 0), (("out", 0), (), 0))))
+    >>> judged(newest, last)[0], len(judged(newest, last)[1]), is_right(newest, last), least_table(newest, last)
+    ('wrong', 3, False, (((0, (), 0), (1, (), 0), (1, (), 1)), (((), 0, 0), ((), 1, 0), ((), 1, 1))))
+    >>> is_table(by_turns, odd, (((0, (), 0), (1, (), 1)), (((), 0, 0), ((), 1, 1)))), is_table(by_turns, odd, (((0, (), 0),), (((), 0, 0),)))
+    (True, False)
+    >>> judged(by_turns, last)
+    raises Unfit()
+'''
+
+JOINS = r'''
+    >>> other_way(last), right_quotient(odds, (1,)) == other_way(odds), right_quotient(last, (1, 2))
+    ((((1, 0), (1, 0)), (0,)), True, (((0, 0),), ()))
+    >>> [takes(both_of(last, odds), own) for own in ((1,), (1, 1), (1, 1, 1), (1, 2))], [takes(either_of(last, odds), own) for own in ((), (1, 1), (1, 2), (2, 2))]
+    ([True, False, True, False], [False, True, True, False])
+    >>> step, back = (("in", 1), (), 1), (("in", 1), (), 0)
+    >>> parity = ("queue", 0, (0,), (False, True), 0, ((step, (("out", 0), (), 1)), (back, (("out", 0), (), 0))))
+    >>> other_kept(parity)[3], both_kept(parity, parity) == parity, quotient_kept(parity, (1, 1, 1))[3]
+    ((True, False), True, (True, False))
+    >>> both_kept(parity, other_kept(parity))[3], either_kept(parity, other_kept(parity))[3]
+    ((False, False), (True, True))
+    >>> both_kept(parity, ("pile",) + parity[1:])
+    raises Unfit()
+    >>> quotient_kept(parity, (2,))
+    raises Unfit()
+'''
+
+JUDGE = r'''
+    >>> odd, newest = (((1,), (0,)), (1,)), (((1, 0), (1, 0)), (1,))
+    >>> verdicts((("kept", odd, (0,)), ("kept", newest, (0, 1)), ("coarsest", odd, (0,)), ("coarsest", newest, (0, 1))), ((), ("tail", (1,), (2,)), (), ("tail", (1,), (2,))))
+    ['for', 'against', 'for', 'against']
+    >>> verdicts((("level", odd, 2), ("level", odd, 1), ("level", newest, 1)), ((), 2, 0))
+    ['for', 'against', 'against']
+    >>> verdicts((("shown", newest, 0), ("shown", newest, 1), ("never", newest)), (((1,), ()), (), 1))
+    ['against', 'for', 'against']
+    >>> twos, blind = ("pile", 0, (0,), (False, True), 0, (((("in", 1), (), 1), (("out", 0), (), 1)), ((("in", 1), (), 0), (("out", 0), (), 0)))), ("pile", 0, (0,), (False,), 0, ((),))
+    >>> verdicts((("pile", odd, 0, (0,)), ("pile", newest, 0, (0, 1)), ("right", twos, odd), ("right", blind, odd)), (twos, ("sink", (), (1,)), (((0, (), 0), (1, (), 1)), (((), 0, 0), ((), 1, 1))), (("in", 1),)))
+    ['for', 'against', 'for', 'against']
+    >>> comes_of(("shown", odd, 3), (("level", odd, 2),)), comes_of(("kept", newest, (0, 1)), (("kept", newest, (0, 0)),)), comes_of(("kept", newest, (0, 0)), (("kept", newest, (0, 1)),))
+    (True, True, False)
+    >>> is_so(("level", odd, 0))
+    raises Unfit()
+'''
+
+TEXTS = r'''
+    >>> odd = (((1, 0), (0, 1)), (1,))
+    >>> machine_text(odd), telling_text((0, 1, 0)), word_text((2, 1)), word_text(()), history_text((("in", 2), ("out",), ("in", 1)))
+    ('machine\nstate 1 0\nend 0 1', 'telling 0 1 0', 'word 2 1', 'word', 'history 2 - 1')
+    >>> machine_read(machine_text(odd)) == odd, history_read("history"), history_read("history - 3"), telling_read("telling 0 0 1")
+    (True, (), (('out',), ('in', 3)), (0, 0, 1))
+    >>> kept = ("pile", 1, (0, 0), (True, False), 0, (((("in", 1), (1,), 1), (("out", 0), (), 0)), ()))
+    >>> keeper_text(kept)
+    'keeper pile 1 0\ntelling 0 0\nyes\nin 1 1 to 1\nout 0 to 0\nno'
+    >>> keeper_read(keeper_text(kept)) == kept
+    True
+    >>> machine_read("machine\nstate 1 0\nend 0")
+    raises BadText(3)
+    >>> machine_read("machine\nstate 2 0\nend 0 1")
+    raises BadText(4)
+    >>> keeper_read("keeper pile 1 0\ntelling 0 0\nyes\nin 1 1 2 to 0")
+    raises BadText(4)
+    >>> telling_read("telling 0 2")
+    raises BadText(1)
+'''
+
+DESK = r'''
+    >>> desk("kept\nmake\nin 1\nin 1\nout\nstands\ntakes\nanswer\nlevel\ncoarsest\nleast\nundo\nstands\nclear\nanswer\nin 2\npile 0\nkept\nanswer")
+    ['yes', 'done', 'done', 'done', 'done', '1', 'yes', 'yes', '2', '0', '0', 'out', '1 1', 'done', 'no', 'refused NoPlace', 'done', 'yes', 'refused CanNot']
+    >>> desk("machine\n machine\n state 1 0\n end 1 0\nkept\nmake\nanswer\ncoarsest\nlevel\nleast\nqueue 1\nkept\nmake\nin 2\nin 1\nanswer\nout\nout\nout\nstands\ntelling\n telling 0\npile 1\nleast\ntelling\n telling 0 x")
+    ['done', 'no', 'refused CanNot', 'refused CanNot', 'refused CanNot', 'refused CanNot', '1', 'done', 'yes', 'done', 'done', 'done', 'yes', 'done', 'done', 'refused CanNot', '-', 'refused Unfit', 'done', '1', 'refused BadText']
+    >>> desk("keeper\n keeper pile 0 0\n telling 0\n no\nin 1\nroom\nanswer\nundo\nundo\nanswer\nundo")
+    ['done', 'done', '0', 'no', 'in', 'keeper', 'refused CanNot', 'refused CanNot']
+    >>> is_request("in 12"), is_request("in"), is_request("machine"), is_request("telling\n x"), is_request("queue 01"), is_request("out 1")
+    (True, False, False, True, False, False)
+    >>> desk("out\n\nin 1")
+    raises BadText(2)
+'''
+
 
 SECTIONS = ((words, WORDS, 8), (machines, MACHINES, 7), (doings, DOINGS, 6), (loops, LOOPS, 5), (kept, KEPT, 8),
-            (tellings, TELLINGS, 8), (keepers, KEEPERS, 6), (shown, SHOWN, 7), (leastshown, LEAST_SHOWN, 6))
+            (tellings, TELLINGS, 8), (keepers, KEEPERS, 6), (shown, SHOWN, 7), (leastshown, LEAST_SHOWN, 6),
+            (piles, PILES, 6), (refuted, REFUTED, 6), (levels, LEVELS, 6), (pilejudge, PILE_JUDGE, 4),
+            (joins, JOINS, 6), (judge, JUDGE, 6), (texts, TEXTS, 8), (desk, DESK, 5))
 
 
 class ExamplesTest(unittest.TestCase):

@@ -16,7 +16,7 @@ BUILTINS = set("""len range enumerate zip min max sum abs sorted reversed int st
     RuntimeError NotImplementedError AttributeError StopIteration NotImplemented""".split())
 METHODS = set("""append clear copy count endswith extend find get index insert isalnum isalpha isdigit islower isspace
     isupper items join keys ljust lower lstrip partition pop remove replace reverse rfind rjust rpartition rsplit rstrip
-    setdefault split splitlines startswith strip update upper values zfill bit_length add discard sort""".split())
+    setdefault split splitlines startswith strip update upper values zfill bit_length add discard sort isascii""".split())
 BARRED = (ast.Global, ast.AsyncFunctionDef, ast.AsyncFor, ast.AsyncWith, ast.Await)
 
 

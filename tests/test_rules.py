@@ -5,8 +5,9 @@ import inspect
 import re
 import unittest
 
-from gonetold import doings, errors, keepers, kept, leastshown, loops, machines, shown, tellings, words
-from gonetold.errors import CanNot, NoPlace, TooMuch, Unfit
+from gonetold import (desk, doings, errors, joins, judge, keepers, kept, leastshown, levels, loops, machines, pilejudge, piles,
+                      refuted, shown, tellings, texts, words)
+from gonetold.errors import BadText, CanNot, NoPlace, TooMuch, Unfit
 from tests.interface import INTERFACE
 from tests.oracles import lists_all_through
 
@@ -23,6 +24,11 @@ SEEING = ("pile", 2, (0, 0), (True, False), 1, (((("in", 2), (1, 2), 1), (("out"
                                                ((("in", 1), (1,), 0), (("in", 1), (1, 1), 1))))
 # Rings of so many states, of one letter: they have as many doings.
 RING_30, RING_31, RING_501 = [(tuple(((state + 1) % many,) for state in range(many)), (0,)) for many in (30, 31, 501)]
+# It has 5 ** 5 doings.
+MANY = (((1, 1, 0), (2, 0, 0), (3, 2, 2), (4, 3, 3), (0, 4, 4)), (0,))
+NEWEST = ("pile", 0, (0, 1), (False, True), 0, ((((("in", 1), (), 1)),), ((("in", 2), (), 0), (("out", 0), (), 0))))
+PILE_ONES = piles.made_pile(ODDS, 0, (0, 1))
+TEXT = "keeper pile 1 0\ntelling 0 0\nyes\nin 1 1 to 1\nout 0 to 0\nno"
 
 CALLS = (
     (words.is_sound, {"history": MIXED}), (words.is_sound, {"history": MIXED[2:]}),
@@ -78,6 +84,46 @@ CALLS = (
     (leastshown.least_shown, {"machine": PAIR}), (leastshown.longest_bar, {"machine": PAIR}),
     (leastshown.never_paper, {"machine": SOME}),
     (leastshown.is_never_paper, {"machine": SOME, "thing": ((), (1,), (2,))}),
+    (piles.least_rank, {"machine": WIDE}), (piles.least_pile, {"machine": PAIR}), (piles.least_pile, {"machine": SOME}),
+    (piles.is_kept_pile, {"machine": ODDS, "shown": 0, "telling": (0, 1)}),
+    (piles.is_kept_pile, {"machine": WIDE, "shown": 0, "telling": (0, 0)}),
+    (piles.bar_pile, {"machine": SOME, "shown": 2, "telling": (0, 0)}),
+    (piles.bar_pile, {"machine": ODDS, "shown": 0, "telling": (0, 0)}),
+    (piles.is_bar_pile, {"machine": WIDE, "shown": 0, "telling": (0, 1), "thing": ("sink", (), (1,))}),
+    (piles.is_bar_pile, {"machine": ODDS, "shown": 0, "telling": (0, 0), "thing": ("unlike", 1, 2)}),
+    (piles.made_pile, {"machine": WIDE, "shown": 1, "telling": (0, 0)}),
+    (piles.made_pile, {"machine": ODDS, "shown": 0, "telling": (0, 1)}),
+    (refuted.two_rows, {"keeper": BLIND, "machine": ODDS}), (refuted.two_rows, {"keeper": SEEING, "machine": SOME}),
+    (refuted.is_two_rows, {"keeper": ONES, "machine": LAST, "thing": ((("in", 1), ("in", 1)), ())}),
+    (refuted.refuted, {"keeper": ONES, "machine": WIDE}), (refuted.refuted, {"keeper": NEWEST, "machine": WIDE}),
+    (refuted.refuted, {"keeper": ("pile",) + BLIND[1:], "machine": ODDS}),
+    (levels.is_levelled, {"machine": TWOS}), (levels.level_of, {"machine": TWOS}), (levels.levels, {"machine": TWOS}),
+    (levels.unlevelled, {"machine": WIDE}), (levels.row_of, {"machine": TWOS, "word": (1, 2, 1)}),
+    (levels.level_rows, {"machine": TWOS}), (levels.fewest_rooms, {"machine": TWOS}), (levels.made_level, {"machine": TWOS}),
+    (pilejudge.least_table, {"keeper": NEWEST, "machine": WIDE}),
+    (pilejudge.is_table, {"keeper": PILE_ONES, "machine": ODDS, "thing": pilejudge.least_table(PILE_ONES, ODDS)}),
+    (pilejudge.judged, {"keeper": NEWEST, "machine": WIDE}), (pilejudge.judged, {"keeper": PILE_ONES, "machine": ODDS}),
+    (pilejudge.judged, {"keeper": SEEING, "machine": SOME}), (pilejudge.is_right, {"keeper": PILE_ONES, "machine": ODDS}),
+    (joins.other_way, {"machine": WIDE}), (joins.both_of, {"one": WIDE, "other": ODDS}),
+    (joins.either_of, {"one": WIDE, "other": ODDS}), (joins.right_quotient, {"machine": PAIR, "word": (1, 2)}),
+    (joins.other_kept, {"keeper": SEEING}), (joins.both_kept, {"one": ONES, "other": ONES}),
+    (joins.both_kept, {"one": SEEING, "other": SEEING[:3] + ((False, True), 0) + SEEING[5:]}),
+    (joins.either_kept, {"one": BLIND, "other": kept.made(TWOS, (0, 0))}),
+    (joins.quotient_kept, {"keeper": ONES, "word": (1, 2, 1)}),
+    (judge.is_so, {"claim": ("right", NEWEST, WIDE)}), (judge.is_so, {"claim": ("level", TWOS, 2)}),
+    (judge.paper, {"claim": ("kept", ODDS, (0, 0))}), (judge.paper, {"claim": ("coarsest", ODDS, (0, 0))}),
+    (judge.paper, {"claim": ("never", SOME)}), (judge.paper, {"claim": ("pile", WIDE, 1, (0, 1))}),
+    (judge.paper, {"claim": ("right", BLIND, ODDS)}), (judge.paper, {"claim": ("right", PILE_ONES, ODDS)}),
+    (judge.is_paper_for, {"claim": ("pile", ODDS, 0, (0, 1)), "thing": PILE_ONES}),
+    (judge.is_paper_against, {"claim": ("pile", ODDS, 0, (0, 0)), "thing": ("unlike", 1, 2)}),
+    (judge.verdicts, {"claims": (("shown", WIDE, 0), ("never", SOME)), "things": (((1,), ()), [(), (1,), (2,)])}),
+    (judge.comes_of, {"claim": ("shown", ODDS, 3), "claims": (("never", ODDS), ("coarsest", ODDS, (0, 1)))}),
+    (judge.first_false, {"claims": (("kept", ODDS, (0, 1)), ("right", NEWEST, WIDE))}),
+    (judge.first_false, {"claims": ()}), (texts.machine_text, {"machine": WIDE}), (texts.telling_text, {"telling": (0, 1, 0)}),
+    (texts.word_text, {"word": (2, 1)}), (texts.history_text, {"history": MIXED}), (texts.keeper_text, {"keeper": SEEING}),
+    (texts.machine_read, {"text": "machine\nstate 1 0\nend 0 1"}), (texts.telling_read, {"text": "telling 0 1"}),
+    (texts.word_read, {"text": "word 2 1"}), (texts.history_read, {"text": "history 2 - 1"}),
+    (texts.keeper_read, {"text": TEXT}), (desk.desk, {"text": "in 1\nmake\nout\nundo\nroom\nwhy"}),
 )
 
 REFUSED = (
@@ -132,6 +178,39 @@ REFUSED = (
     (shown.made_shown, {"machine": RING_30, "shown": 4}, TooMuch()),
     (leastshown.barred, {"machine": LAST, "shown": -1}, Unfit()), (leastshown.longest_bar, {"machine": ODDS}, CanNot()),
     (leastshown.longest_bar, {"machine": SOME}, CanNot()), (leastshown.never_paper, {"machine": PAIR}, CanNot()),
+    (piles.least_rank, {"machine": MANY}, TooMuch()), (piles.least_pile, {"machine": MANY}, TooMuch()),
+    (piles.is_kept_pile, {"machine": MANY, "shown": 0, "telling": (0, 0)}, Unfit()),
+    (piles.is_kept_pile, {"machine": MANY, "shown": -1, "telling": (0,)}, Unfit()),
+    (piles.is_kept_pile, {"machine": MANY, "shown": 0, "telling": (0, 1, 2)}, TooMuch()),
+    (piles.bar_pile, {"machine": WIDE, "shown": 1, "telling": (0, 0)}, CanNot()),
+    (piles.bar_pile, {"machine": MANY, "shown": 0, "telling": (0, 1, 2)}, TooMuch()),
+    (piles.is_bar_pile, {"machine": WIDE, "shown": 1, "telling": (0,), "thing": ()}, Unfit()),
+    (piles.made_pile, {"machine": SOME, "shown": 20, "telling": (0, 0)}, CanNot()),
+    (piles.made_pile, {"machine": WIDE, "shown": 20, "telling": (0, 0)}, TooMuch()),
+    (refuted.two_rows, {"keeper": ONES, "machine": RING_30}, Unfit()), (refuted.two_rows, {"keeper": ONES, "machine": ODDS}, Unfit()),
+    (refuted.refuted, {"keeper": PILE_ONES, "machine": ODDS}, Unfit()),
+    (refuted.is_two_rows, {"keeper": ONES, "machine": RING_30, "thing": ()}, Unfit()),
+    (levels.level_of, {"machine": WIDE}, CanNot()), (levels.levels, {"machine": WIDE}, CanNot()),
+    (levels.unlevelled, {"machine": TWOS}, CanNot()), (levels.row_of, {"machine": WIDE, "word": (3,)}, CanNot()),
+    (levels.row_of, {"machine": TWOS, "word": (3,)}, NoPlace(3)), (levels.row_of, {"machine": TWOS, "word": (2,)}, Unfit()),
+    (levels.level_rows, {"machine": SOME}, CanNot()), (levels.fewest_rooms, {"machine": SOME}, CanNot()),
+    (levels.made_level, {"machine": SOME}, CanNot()), (pilejudge.least_table, {"keeper": ONES, "machine": ODDS}, Unfit()),
+    (pilejudge.is_table, {"keeper": PILE_ONES, "machine": RING_30, "thing": ()}, Unfit()),
+    (pilejudge.judged, {"keeper": SEEING, "machine": MANY}, Unfit()),
+    (pilejudge.is_right, {"keeper": ("queue",) + NEWEST[1:], "machine": WIDE}, Unfit()),
+    (joins.both_of, {"one": WIDE, "other": RING_30}, Unfit()), (joins.either_of, {"one": RING_30, "other": WIDE}, Unfit()),
+    (joins.right_quotient, {"machine": WIDE, "word": (2, 4, 3)}, NoPlace(4)),
+    (joins.both_kept, {"one": ONES, "other": BLIND}, Unfit()), (joins.either_kept, {"one": ONES, "other": PILE_ONES}, Unfit()),
+    (joins.quotient_kept, {"keeper": ONES, "word": (1, 3)}, Unfit()), (joins.quotient_kept, {"keeper": SEEING, "word": ()}, Unfit()),
+    (judge.is_so, {"claim": ("right", ONES, ODDS)}, Unfit()), (judge.paper, {"claim": ("pile", MANY, 0, (0, 0, 0))}, TooMuch()),
+    (judge.is_paper_for, {"claim": ("level", TWOS, 0), "thing": ()}, Unfit()),
+    (judge.is_paper_against, {"claim": ("pile", MANY, 0, (0, 0, 0)), "thing": ()}, TooMuch()),
+    (judge.verdicts, {"claims": (("never", SOME),), "things": ()}, Unfit()),
+    (judge.comes_of, {"claim": ("never", SOME), "claims": (("never",),)}, Unfit()),
+    (judge.first_false, {"claims": (("never", ODDS), ("never",))}, Unfit()),
+    (texts.machine_read, {"text": "machine\nstate 1 0"}, BadText(3)), (texts.telling_read, {"text": "telling 1"}, BadText(1)),
+    (texts.word_read, {"text": "word\n"}, BadText(2)), (texts.history_read, {"text": ""}, BadText(1)),
+    (texts.keeper_read, {"text": TEXT + "\nout 1 to 0"}, BadText(7)), (desk.desk, {"text": "out\n\nin 1"}, BadText(2)),
 )
 
 
@@ -141,7 +220,7 @@ def mixed_kinds(arguments):
     A thing stays as it is: a list in it is no tuple.
     """
     def with_lists(made):
-        return {name: made(value) if name != "thing" and isinstance(value, tuple) else value
+        return {name: list(value) if name == "things" else made(value) if name != "thing" and isinstance(value, tuple) else value
                 for name, value in arguments.items()}
 
     return arguments, with_lists(lists_all_through), with_lists(list)
@@ -150,7 +229,8 @@ def mixed_kinds(arguments):
 def listed_functions():
     """The triples of the module, the name and the arguments of each function that the document lists."""
     modules = {own.__name__.split(".")[1]: own
-               for own in (words, machines, doings, loops, kept, tellings, keepers, shown, leastshown)}
+               for own in (words, machines, doings, loops, kept, tellings, keepers, shown, leastshown, piles, refuted, levels,
+                           pilejudge, joins, judge, texts, desk)}
     return [(modules[file], name, arguments) for file, listed in INTERFACE.items()
             for name, arguments in re.findall(SIGNATURE, listed)]
 
@@ -218,7 +298,8 @@ class CallsTest(unittest.TestCase):
 
     def test_truth_is_told_by_true_and_false(self):
         for own, arguments in CALLS:
-            if own.__name__ in ("takes", "are_alike", "leads_back", "returns", "keeps_tails", "answer_behind", "parts"):
+            if own.__name__ in ("takes", "are_alike", "leads_back", "returns", "keeps_tails", "answer_behind", "parts",
+                                "comes_of"):
                 self.assertIsInstance(own(**arguments), bool)
             self.assertEqual(isinstance(own(**arguments), bool) or own.__name__[:3] != "is_", True, own.__name__)
 
