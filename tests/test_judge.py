@@ -446,6 +446,13 @@ class ComesOfTest(unittest.TestCase):
         self.assertIs(comes_of(("shown", wide, 2), (("shown", LAST, 1),)), False)
         self.assertIs(comes_of(("shown", LAST, 10 ** 30), (("shown", LAST, 1),)), True)
 
+    def test_of_one_keeper_and_unlike_machines(self):
+        machines = (LAST, SOME, ODDS, (((0, 0),), ()))
+        claims = [("right", ("pile",) + ONES[1:], machine) for machine in machines]
+        for one in claims:
+            for other in claims:
+                self.assertIs(comes_of(one, (other,)), one == other)
+
     def test_by_hand(self):
         for claim, claims, expected in (
                 (("shown", ODD, 0), (("kept", ODD, (0,)),), True), (("kept", ODD, (0,)), (("shown", ODD, 0),), False),

@@ -9,14 +9,14 @@ from gonetold.machines import least, letters_in
 from gonetold.pilejudge import is_right, is_table, judged, least_table
 from gonetold.piles import made_pile
 from gonetold.tellings import tellings
-from gonetold.words import puts
+from gonetold.words import outs, puts
 from tests.oracles import (PIECES, changed, is_sound_plainly, jumping, led, levelled_machines, nested, ring,
                            some_machines, standings_plainly, turning_machines)
 from tests.test_refuted import counting_keeper, moving_keeper, sights_of
 
 ODD, LAST, SOME = (((1,), (0,)), (1,)), (((1, 0), (1, 0)), (1,)), (((1, 0), (1, 1)), (1,))
 TURNS, PAIR = (((1, 1), (0, 2), (2, 0)), (0,)), (((1, 0), (2, 0), (2, 0)), (2,))
-WIDE, NOTHING = (((2, 1), (2, 1), (2, 3), (2, 1)), (2,)), (((0, 0),), ())
+WIDE, NOTHING, ONE_LETTER = (((2, 1), (2, 1), (2, 3), (2, 1)), (2,)), (((0, 0),), ()), (((0,),), ())
 BY_TURNS = ("pile", 0, (0,), (False, True), 0, (((("in", 1), (), 1), (("out", 0), (), 1)),
                                                ((("in", 1), (), 0), (("out", 0), (), 0))))
 NEWEST = ("pile", 0, (0, 1), (False, True), 0, ((((("in", 1), (), 1)),), ((("in", 2), (), 0), (("out", 0), (), 0))))
@@ -231,10 +231,75 @@ class JudgedTest(unittest.TestCase):
             keeper = ("pile", 0, (0,), answers, 0, tuple(table) + ((), ()))
             self.assertEqual(judged(keeper, (((0,),), ())), ("wrong", puts((1,) * many) + (("out",),) * many))
 
+    def test_the_shorter_of_two_ways_is_taken(self):
+        # Twice in and out lead to the last room, and so do five letters that come in.
+        keeper = keeper_by_names((0,), {"begin": {"in 1": "one"}, "one": {"in 1": "two", "out 0": "again"},
+                                        "two": {"in 1": "three"}, "three": {"in 1": "four"}, "four": {"in 1": "last"},
+                                        "again": {"in 1": "once more"}, "once more": {"out 0": "last"}})
+        self.assertEqual(judged(keeper, ONE_LETTER), ("wrong", (puts((1,)) + outs(1)) * 2))
+        # One way in four deeds with a turn, and one in three without.
+        keeper = keeper_by_names((0,), {"begin": {"in 1": "one"}, "one": {"in 1": "two", "out 0": "again"},
+                                        "two": {"in 1": "last"}, "again": {"in 1": "once more"}, "once more": {"out 0": "last"}})
+        self.assertEqual(judged(keeper, ONE_LETTER), ("wrong", puts((1, 1, 1))))
+
+    def test_one_wrong_room_told_off_by_a_counter(self):
+        lengths = {}
+        for seed in range(240):
+            telling, machine = (((0,), ONE_LETTER), ((0, 0), NOTHING), ((0, 1), NOTHING))[seed % 3]
+            rooms = 4 + seed % 5
+            keeper = moving_keeper("pile", seed % 4 // 3, telling, rooms, seed, 3)
+            keeper = keeper[:3] + (tuple(room == rooms - 1 for room in range(rooms)), 0, keeper[5])
+            verdict, paper = judged(keeper, machine)
+            if verdict == "wrong":
+                self.shortest(keeper, machine, paper)
+                lengths[len(paper)] = lengths.get(len(paper), 0) + 1
+            else:
+                self.assertEqual(paper, least_table(keeper, machine))
+                self.no_short_parting(keeper, machine)
+        self.assertGreater(max(lengths), 6, lengths)
+
     def test_tables_are_sets_of_tuples(self):
         stands, turns = least_table(NEWEST, LAST)
         self.assertEqual((list(stands), list(turns)), (sorted(set(stands)), sorted(set(turns))))
         self.assertEqual(least_table(STILL, NOTHING)[0][:3], ((0, (), 0), (0, (1,), 0), (0, (1, 1), 0)))
+
+
+def keeper_by_names(telling, rows):
+    """A keeper that is shown nothing, its rooms named: what is not told of a room leads to a dead end.
+
+    It answers True in its room "last" alone.
+    """
+    names = list(rows) + ["last", "dead"]
+    heard = [("in", letter) for letter in range(1, len(telling) + 1)] + [("out", token) for token in sorted(set(telling))]
+    table = tuple(tuple((ear, (), names.index(rows.get(name, {}).get(f"{ear[0]} {ear[1]}", "dead"))) for ear in heard)
+                  for name in names)
+    return "pile", 0, telling, tuple(name == "last" for name in names), 0, table
+
+
+def calling_keeper(depth, pairs, more):
+    """A keeper that must hear one history, of four letters, to come to its room "last", and the number of its deeds.
+
+    A letter 1 comes in; four times, for letters 1 to 4, a letter, depth letters 1 and these again go in and out; then a
+    letter comes in and goes out, pairs times; the first letter goes out; more letters come in.
+    """
+    rows = {"begin": {"in 1": "call 1"}}
+    for letter in range(1, 5):
+        rows[f"call {letter}"] = {f"in {letter}": "down 0"}
+    for at in range(depth):
+        rows[f"down {at}"] = {"in 1": f"down {at + 1}"}
+        rows[f"up {at + 1}"] = {"out 0": f"up {at}"}
+    rows[f"down {depth}"] = {"out 0": f"up {depth - 1}"}
+    del rows[f"up {depth}"]
+    rows["up 0"] = {f"out {letter - 1}": f"call {letter + 1}" if letter < 4 else "even 0" for letter in range(1, 5)}
+    for at in range(pairs):
+        rows[f"even {at}"] = {"in 1": f"odd {at}"}
+        rows[f"odd {at}"] = {"out 0": f"even {at + 1}"}
+    rows[f"even {pairs}"] = {"out 0": "more 0"}
+    for at in range(more):
+        rows[f"more {at}"] = {"in 1": f"more {at + 1}"}
+    named = {name: {ear: "last" if room == f"more {more}" else room for ear, room in row.items()}
+             for name, row in rows.items()}
+    return keeper_by_names((0, 1, 2, 3), named), 4 * (2 * depth + 2) + 2 * pairs + 2 + more
 
 
 def ring_keeper(rooms, true=(0,)):
@@ -293,6 +358,20 @@ class BoundsTest(unittest.TestCase):
             judged(ring_keeper(1000, (601,)), never)
         self.assertIs(is_right(ring_keeper(1000, (601,)), never), False)
         self.assertEqual(judged(ring_keeper(1000, ()), never)[0], "right")
+
+    def test_a_turn_of_600_deeds_and_one_deed_more(self):
+        never = (((0,) * 4,), ())
+        for depth, pairs, more in ((1, 0, 0), (2, 1, 2), (5, 0, 1), (73, 3, 0)):
+            keeper, many = calling_keeper(depth, pairs, more)
+            verdict, history = judged(keeper, never)
+            self.assertEqual((verdict, len(history)), ("wrong", many))
+            self.assertIs(parts(keeper, never, history), True)
+            self.assertEqual(is_sound_plainly(history), True)
+        self.assertEqual(calling_keeper(73, 3, 0)[1], 600)
+        for depth, pairs, more in ((73, 3, 1), (73, 4, 0), (74, 0, 0)):
+            self.assertGreater(calling_keeper(depth, pairs, more)[1], 600)
+            with self.assertRaises(TooMuch):
+                judged(calling_keeper(depth, pairs, more)[0], never)
 
     def test_is_table_knows_no_bound(self):
         stands = tuple((at, (), at) for at in range(1500))
@@ -361,6 +440,14 @@ class IsTableTest(unittest.TestCase):
         self.assertIs(is_table(keeper, NOTHING, (stands[::-1], turns)), False)
         self.assertIs(is_table(keeper, NOTHING, (stands + stands[-1:], turns)), False)
         self.assertIs(is_table(keeper[:3] + ((False, True),) + keeper[4:], NOTHING, (stands, turns)), False)
+
+    def test_what_is_seen_has_as_many_letters_as_are_shown(self):
+        # All of these are closed but for that.
+        for shown, longest, expected in ((0, 0, True), (0, 1, False), (1, 1, True), (1, 2, False), (3, 3, True), (1, 0, False)):
+            keeper = ("pile", shown, (0,), (False,), 0, ((),))
+            sights = [(1,) * many for many in range(longest + 1)]
+            thing = (tuple((0, sight, 0) for sight in sights), tuple((sight, 0, 0) for sight in sights))
+            self.assertIs(is_table(keeper, ONE_LETTER, thing), expected)
 
     def test_a_closed_table_that_does_not_fit(self):
         self.assertIs(is_table(NEWEST, LAST, least_table(NEWEST, LAST)), False)

@@ -217,6 +217,7 @@ class TextsTest(unittest.TestCase):
                 (keeper_read, "keeper queue 1 0\ntelling 0\nyes\nin 1 1 to 0\nin 1 to 0", 5),
                 (keeper_read, "keeper queue 1 0\ntelling 0\nyes\nin 1 2 to 0", 4), (keeper_read, "keeper queue 1 0\ntelling 0\nyes\nin 1 0 to 0", 4),
                 (keeper_read, "keeper queue 1 0\ntelling 0\nyes\nin 0 to 0", 4), (keeper_read, "keeper queue 0 0\ntelling 0\nyes\nin to 0", 4),
+                (keeper_read, "keeper queue 0 0\ntelling 0\nyes\nout to 0", 4), (keeper_read, "keeper queue 0 0\ntelling 0\nyes\nout 0 0", 4),
                 (keeper_read, "keeper queue 0 0\ntelling 0\nyes\nin 1 0", 4), (keeper_read, "keeper queue 0 0\ntelling 0\nyes\n", 4),
                 (keeper_read, "keeper queue 0 999999999999\ntelling 0\nyes", 4), (keeper_read, "keeper queue 1000000000000 0\ntelling 0\nyes", 1),
                 (keeper_read, "keeper queue 0 0\ntelling 0 1\nyes\nout 1 to 0\nout 0 to 0", 5)):
